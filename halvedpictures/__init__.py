@@ -1,0 +1,1 @@
+"""Pictures by sums and differences, halved and halved again."""
