@@ -1,4 +1,4 @@
-"""Which things are whole numbers, rows, sizes and places."""
+"""Which things are whole numbers, rows, halves of rows, sizes and places."""
 
 MOST_NUMBER = 10 ** 15 - 1
 MOST_SIDE = 64
@@ -23,6 +23,14 @@ def is_row(thing, least):
     if not isinstance(thing, list) or not least <= len(thing) <= MOST_SIDE:
         return False
     return all([is_number(number) for number in thing])
+
+
+def are_halves(sums, differences):
+    """Tell whether any two things are the sums and the differences of which a row is put back."""
+    if not is_row(differences, 1) or not is_row(sums, len(differences)):
+        return False
+    # At least as many sums, and at most 64 of both: so there are never more than 32 differences.
+    return len(sums) <= len(differences) + 1 and len(sums) + len(differences) <= MOST_SIDE
 
 
 def is_size(height, width):

@@ -3,6 +3,9 @@
 from halvedpictures import errors
 from halvedpictures.errors import HalvedError
 from halvedpictures.fields import Field
+from halvedpictures.lifted import Guessed, Leaning
+from halvedpictures.plans import Plan
+from halvedpictures.rules import Halves, Sums
 
 
 def wrong_things():
@@ -17,6 +20,7 @@ def wrong_things():
         (None, None), ([1, 2], [3]), ((0, 0), 0), [0, 0],
         {}, {"a": 1}, {0: [1, 2], 1: [3, 4]}, {(0, 0): None}, {"rows": {"rows": [()]}},
         Field([[1]]), Field([[1, 2], [3, 4]]), [Field([[1]])], errors.NoField(None), HalvedError("no"),
+        Sums(), Halves(), Guessed(), Leaning(), [Sums()], Plan(2, 2, "sum", "b"), (Plan(1, 1, "lean", ""), 0),
     ]
 
 
@@ -54,3 +58,24 @@ def assert_refused(case, refusal, fields, deed, *things):
 def is_plain_whole(thing):
     """Whether a thing is a whole number, said in other words than the package says it."""
     return thing.__class__ is int
+
+
+def some_way(chance, height, width):
+    """A way that some chance makes for a size, of as many steps as it likes."""
+    way = ""
+    while chance.randrange(6) > 0:
+        letters = ("r" if width > 1 else "") + ("p" if height > 1 else "") + ("b" if min(height, width) > 1 else "")
+        if letters == "":
+            break
+        letter = chance.choice(letters)
+        way += letter
+        if letter in "rb":
+            width = (width + 1) // 2
+        if letter in "pb":
+            height = (height + 1) // 2
+    return way
+
+
+def some_rows(chance, height, width, most):
+    """Rows of numbers from -most to most."""
+    return [[chance.randint(-most, most) for x in range(width)] for y in range(height)]

@@ -1,0 +1,40 @@
+"""How fields that are handed in are looked at, and refused."""
+
+from halvedpictures.errors import NoField, TooGreat, Unlike
+from halvedpictures.fields import Field
+from halvedpictures.kinds import is_whole
+
+MOST_VALUE = 10 ** 5
+MOST_HALVED = 10 ** 9
+
+
+def size_of(thing):
+    """Tell the height and the width of a plan or a field."""
+    return (thing.height(), thing.width())
+
+
+def check_size(plan, thing):
+    """Refuse what is no field of the plan's size."""
+    if not isinstance(thing, Field):
+        raise NoField(thing)
+    if size_of(plan) != size_of(thing):
+        raise Unlike(size_of(plan), size_of(thing))
+
+
+def check_bounds(field, low, high):
+    """Refuse a field with a number that is not from low to high."""
+    for place in field.places():
+        if not is_whole(field.at(place), low, high):
+            raise TooGreat(place)
+
+
+def check_picture(plan, thing):
+    """Refuse what is no picture of the plan's size."""
+    check_size(plan, thing)
+    check_bounds(thing, -MOST_VALUE, MOST_VALUE)
+
+
+def check_numbers(plan, thing):
+    """Refuse what is no field of numbers of the plan's size."""
+    check_size(plan, thing)
+    check_bounds(thing, -MOST_HALVED, MOST_HALVED)

@@ -1,0 +1,78 @@
+"""Pictures halved by a plan, and put back."""
+
+from halvedpictures.checks import check_numbers, check_picture
+from halvedpictures.fields import Field
+from halvedpictures.plans import ALONG_PILLARS, ALONG_ROWS
+
+
+def turned(rows):
+    """Tell the pillars of rows, from the left, each as a row."""
+    return [[row[x] for row in rows] for x in range(len(rows[0]))]
+
+
+def halve_row(rule, row, many):
+    """Tell a row with so many numbers at its head halved."""
+    sums, differences = rule.halves(row[:many])
+    return sums + differences + row[many:]
+
+
+def join_row(rule, row, many):
+    """Tell a row with so many halved numbers at its head put back."""
+    middle = (many + 1) // 2
+    return rule.back(row[:middle], row[middle:many]) + row[many:]
+
+
+def halve_rows(rule, rows, height, width):
+    """Tell rows with each row of the corner of this size halved."""
+    return [halve_row(rule, row, width) for row in rows[:height]] + rows[height:]
+
+
+def join_rows(rule, rows, height, width):
+    """Tell rows with each row of the corner of this size put back."""
+    return [join_row(rule, row, width) for row in rows[:height]] + rows[height:]
+
+
+def step_forth(plan, rows, step):
+    """Tell the rows behind a step."""
+    height, width = plan.corner(step)
+    letter = plan.way()[step]
+    if letter in ALONG_ROWS:
+        rows = halve_rows(plan.rule(), rows, height, width)
+    if letter in ALONG_PILLARS:
+        rows = turned(halve_rows(plan.rule(), turned(rows), width, height))
+    return rows
+
+
+def step_back(plan, rows, step):
+    """Tell the rows ahead of a step."""
+    height, width = plan.corner(step)
+    letter = plan.way()[step]
+    if letter in ALONG_PILLARS:
+        rows = turned(join_rows(plan.rule(), turned(rows), width, height))
+    if letter in ALONG_ROWS:
+        rows = join_rows(plan.rule(), rows, height, width)
+    return rows
+
+
+def halved(plan, picture):
+    """Tell the field of the numbers of a picture."""
+    check_picture(plan, picture)
+    rows = picture.rows()
+    for step in range(plan.steps()):
+        rows = step_forth(plan, rows, step)
+    return Field(rows)
+
+
+def put_back(plan, numbers):
+    """Tell the field that is put back from numbers."""
+    return coarse(plan, numbers, 0)
+
+
+def coarse(plan, numbers, step):
+    """Tell the corner ahead of a step, put back from numbers."""
+    check_numbers(plan, numbers)
+    height, width = plan.corner(step)
+    rows = numbers.rows()
+    for later in reversed(range(step, plan.steps())):
+        rows = step_back(plan, rows, later)
+    return Field([row[:width] for row in rows[:height]])
