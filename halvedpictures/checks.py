@@ -1,8 +1,8 @@
-"""How fields that are handed in are looked at, and refused."""
+"""How fields and places that are handed in are looked at, and refused."""
 
-from halvedpictures.errors import NoField, TooGreat, Unlike
+from halvedpictures.errors import NoField, NoPlace, TooGreat, Unlike
 from halvedpictures.fields import Field
-from halvedpictures.kinds import is_whole
+from halvedpictures.kinds import is_place_within, is_whole
 
 MOST_VALUE = 10 ** 5
 MOST_HALVED = 10 ** 9
@@ -38,3 +38,10 @@ def check_numbers(plan, thing):
     """Refuse what is no field of numbers of the plan's size."""
     check_size(plan, thing)
     check_bounds(thing, -MOST_HALVED, MOST_HALVED)
+
+
+def check_place(plan, step, thing):
+    """Refuse what is no step's number, and then what is no place of the corner ahead of this step."""
+    height, width = plan.corner(step)
+    if not is_place_within(thing, height, width):
+        raise NoPlace(thing)

@@ -3,7 +3,8 @@
 from halvedpictures import errors
 from halvedpictures.errors import HalvedError
 from halvedpictures.fields import Field
-from halvedpictures.lifted import Guessed, Leaning
+from halvedpictures.lifted import Guessed, Leaning, words
+from halvedpictures.pictures import Picture
 from halvedpictures.plans import Plan
 from halvedpictures.rules import Halves, Sums
 
@@ -21,6 +22,7 @@ def wrong_things():
         {}, {"a": 1}, {0: [1, 2], 1: [3, 4]}, {(0, 0): None}, {"rows": {"rows": [()]}},
         Field([[1]]), Field([[1, 2], [3, 4]]), [Field([[1]])], errors.NoField(None), HalvedError("no"),
         Sums(), Halves(), Guessed(), Leaning(), [Sums()], Plan(2, 2, "sum", "b"), (Plan(1, 1, "lean", ""), 0),
+        Picture(Plan(1, 2, "half", "r"), Field([[3, 4]])),
     ]
 
 
@@ -79,3 +81,122 @@ def some_way(chance, height, width):
 def some_rows(chance, height, width, most):
     """Rows of numbers from -most to most."""
     return [[chance.randint(-most, most) for x in range(width)] for y in range(height)]
+
+
+# Sizes and ways: sides even and odd, 1 and 64, products of 512, and as many halvings as there can be.
+SIZES_AND_WAYS = [
+    (1, 1, ""), (3, 4, ""), (1, 2, "r"), (2, 1, "p"), (2, 2, "b"), (2, 3, "rp"), (3, 2, "pr"), (3, 3, "bb"),
+    (5, 7, "rpb"), (5, 7, "prb"), (7, 5, "bbb"), (4, 4, "brp"), (4, 4, "rrpp"), (1, 64, "rrrrrr"),
+    (64, 1, "pppppp"), (64, 8, "bbbppp"), (8, 64, "rbprrbr"), (22, 23, "bbbbb"), (17, 30, "rrrrrppppp"),
+    (33, 15, "ppbbbb"), (9, 56, "brrbbr"),
+]
+
+
+def told_plans():
+    """A plan of each rule for each of the sizes and ways."""
+    return [Plan(height, width, word, way) for height, width, way in SIZES_AND_WAYS for word in words()]
+
+
+def some_plans(chance, times, most):
+    """Plans that some chance makes, of sides up to most."""
+    for time in range(times):
+        height = chance.randint(1, most)
+        width = chance.randint(1, min(most, 512 // height))
+        yield Plan(height, width, chance.choice(words()), some_way(chance, height, width))
+
+
+def is_place_of(thing, height, width):
+    """Whether a thing is a place of a size, said in other words than the package says it."""
+    return thing.__class__ is tuple and len(thing) == 2 and all(is_plain_whole(one) for one in thing) and (
+        thing in [(y, x) for y in range(height) for x in range(width)])
+
+
+class Hung:
+    """A number of which is known only on which places it hangs, whatever is reckoned with it."""
+
+    def __init__(self, *places):
+        self.places = frozenset(places)
+
+    def with_all_of(self, other):
+        return Hung(*(self.places | (other.places if isinstance(other, Hung) else frozenset())))
+
+    __add__ = __radd__ = __sub__ = __rsub__ = __mul__ = __rmul__ = __floordiv__ = with_all_of
+
+
+def at_or(numbers, at, instead):
+    """The number at a place, or the one that stands instead where it is lacking."""
+    return numbers[at] if 0 <= at < len(numbers) else instead
+
+
+def halves_as_written(word, row):
+    """The sums and the differences of a row, in the words of the points 21 to 24."""
+    a, b = row[0::2], row[1::2]
+    pairs = range(len(b))
+    if word == "guess":
+        d = [b[i] - (a[i] + at_or(a, i + 1, a[i])) // 2 for i in pairs]
+        s = [a[i] + (at_or(d, i - 1, d[min(i, len(d) - 1)]) + at_or(d, i, d[i - 1]) + 2) // 4 for i in range(len(a))]
+        return s, d
+    s = [a[i] + b[i] if word == "sum" else (a[i] + b[i]) // 2 for i in pairs]
+    s += [2 * one if word == "sum" else one for one in a[len(b):]]
+    d = [a[i] - b[i] for i in pairs]
+    if word == "lean":
+        d = [d[i] - (at_or(s, i - 1, s[i]) - at_or(s, i + 1, s[i]) + 2) // 4 for i in pairs]
+    return s, d
+
+
+def back_as_written(word, s, d):
+    """The row of sums and differences, in the words of the points 21 to 24."""
+    pairs = range(len(d))
+    if word == "guess":
+        a = [s[i] - (at_or(d, i - 1, d[min(i, len(d) - 1)]) + at_or(d, i, d[i - 1]) + 2) // 4 for i in range(len(s))]
+        b = [d[i] + (a[i] + at_or(a, i + 1, a[i])) // 2 for i in pairs]
+    else:
+        if word == "lean":
+            d = [d[i] + (at_or(s, i - 1, s[i]) - at_or(s, i + 1, s[i]) + 2) // 4 for i in pairs]
+        a = [(s[i] + d[i]) // 2 if word == "sum" else s[i] + (d[i] + 1) // 2 for i in pairs]
+        b = [s[i] - a[i] if word == "sum" else a[i] - d[i] for i in pairs]
+        a += [one // 2 if word == "sum" else one for one in s[len(d):]]
+    row = [one for pair in zip(a, b) for one in pair]
+    return row + a[len(b):]
+
+
+def lines_of_step(plan, step):
+    """The lines of places that a step halves, one behind the other."""
+    height, width = plan.corner(step)
+    lines = []
+    if plan.way()[step] in "rb":
+        lines += [[(y, x) for x in range(width)] for y in range(height)]
+    if plan.way()[step] in "pb":
+        lines += [[(y, x) for y in range(height)] for x in range(width)]
+    return lines
+
+
+def halved_in_place(plan, cells, steps, halves):
+    """Cells, by their places, with the first steps taken line by line, in the words of point 30."""
+    cells = dict(cells)
+    for step in range(steps):
+        for line in lines_of_step(plan, step):
+            sums, differences = halves(plan.rule().word(), [cells[place] for place in line])
+            cells.update(zip(line, sums + differences))
+    return cells
+
+
+def back_in_place(plan, cells, step, back):
+    """Cells, by their places, with the steps from the last one to this one put back, in the words of point 35."""
+    cells = dict(cells)
+    for later in reversed(range(step, plan.steps())):
+        for line in reversed(lines_of_step(plan, later)):
+            middle = (len(line) + 1) // 2
+            numbers = [cells[place] for place in line]
+            cells.update(zip(line, back(plan.rule().word(), numbers[:middle], numbers[middle:])))
+    return cells
+
+
+def cells_of(rows):
+    """Numbers by their places."""
+    return {(y, x): number for y, row in enumerate(rows) for x, number in enumerate(row)}
+
+
+def rows_of(cells, height, width):
+    """The rows of a corner of cells."""
+    return [[cells[y, x] for x in range(width)] for y in range(height)]

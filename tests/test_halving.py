@@ -9,48 +9,24 @@ from halvedpictures.fields import Field
 from halvedpictures.halving import coarse, halved, put_back
 from halvedpictures.lifted import rule_of, words
 from halvedpictures.plans import Plan
-from tests.helper import assert_refused, is_plain_whole, shown, some_rows, some_way, wrong_things
+from tests.helper import (
+    assert_refused, cells_of, halved_in_place, is_plain_whole, rows_of, shown, some_plans, some_rows, told_plans,
+    wrong_things)
 
 MOST_VALUE = 10 ** 5
 MOST_NUMBER = 10 ** 9
 
-# Sizes and ways: sides even and odd, 1 and 64, products of 512, and as many halvings as there can be.
-PLANS = [
-    (1, 1, ""), (3, 4, ""), (1, 2, "r"), (2, 1, "p"), (2, 2, "b"), (2, 3, "rp"), (3, 2, "pr"), (3, 3, "bb"),
-    (5, 7, "rpb"), (5, 7, "prb"), (7, 5, "bbb"), (4, 4, "brp"), (4, 4, "rrpp"), (1, 64, "rrrrrr"),
-    (64, 1, "pppppp"), (64, 8, "bbbppp"), (8, 64, "rbprrbr"), (22, 23, "bbbbb"), (17, 30, "rrrrrppppp"),
-    (33, 15, "ppbbbb"), (9, 56, "brrbbr"),
-]
-
 
 def cell_by_cell(plan, rows):
     """A picture halved in place, cell by cell, in the words of point 30."""
-    cells = {(y, x): number for y, row in enumerate(rows) for x, number in enumerate(row)}
-    height, width = plan.height(), plan.width()
-    for letter in plan.way():
-        lines = []
-        if letter in "rb":
-            lines += [[(y, x) for x in range(width)] for y in range(height)]
-        if letter in "pb":
-            lines += [[(y, x) for y in range(height)] for x in range(width)]
-        for line in lines:
-            sums, differences = plan.rule().halves([cells[place] for place in line])
-            cells.update(zip(line, sums + differences))
-        width = -(-width // 2) if letter in "rb" else width
-        height = -(-height // 2) if letter in "pb" else height
-    return [[cells[y, x] for x in range(plan.width())] for y in range(plan.height())]
+    cells = halved_in_place(plan, cells_of(rows), plan.steps(), lambda word, row: rule_of(word).halves(row))
+    return rows_of(cells, plan.height(), plan.width())
 
 
-def all_plans():
-    return [Plan(height, width, word, way) for height, width, way in PLANS for word in words()]
-
-
-def some_plans(seed, times):
+def plans_by_chance(seed, times):
     chance = random.Random(seed)
-    for time in range(times):
-        height = chance.randint(1, 20)
-        width = chance.randint(1, 20)
-        yield chance, Plan(height, width, chance.choice(words()), some_way(chance, height, width))
+    for plan in some_plans(chance, times, 20):
+        yield chance, plan
 
 
 class HalvedTest(unittest.TestCase):
@@ -92,7 +68,7 @@ class HalvedTest(unittest.TestCase):
 
     def test_many_pictures_cell_by_cell(self):
         chance = random.Random(7)
-        for plan in all_plans():
+        for plan in told_plans():
             rows = some_rows(chance, plan.height(), plan.width(), chance.choice((3, 200, MOST_VALUE)))
             field = halved(plan, Field(rows))
             self.assertEqual((field.height(), field.width()), (plan.height(), plan.width()))
@@ -111,20 +87,20 @@ class HalvedTest(unittest.TestCase):
 class PutBackTest(unittest.TestCase):
     def test_every_picture_is_put_back(self):
         chance = random.Random(8)
-        for plan in all_plans():
+        for plan in told_plans():
             for most in (1, 50, MOST_VALUE):
                 picture = Field(some_rows(chance, plan.height(), plan.width(), most))
                 numbers = halved(plan, picture)
                 self.assertTrue(put_back(plan, numbers).same(picture), (plan.rule().word(), plan.way()))
 
     def test_pictures_of_some_sizes_and_ways_are_put_back(self):
-        for chance, plan in some_plans(9, 200):
+        for chance, plan in plans_by_chance(9, 200):
             picture = Field(some_rows(chance, plan.height(), plan.width(), 1000))
             self.assertTrue(put_back(plan, halved(plan, picture)).same(picture))
 
     def test_pictures_at_the_bounds_are_halved_and_put_back(self):
         chance = random.Random(10)
-        for plan in all_plans():
+        for plan in told_plans():
             for bent in (0, 1, 2):
                 rows = [[MOST_VALUE * (-1) ** (bent * chance.randrange(2) + (bent == 2) * (x + y))
                          for x in range(plan.width())] for y in range(plan.height())]
@@ -142,7 +118,7 @@ class PutBackTest(unittest.TestCase):
 
     def test_numbers_that_are_put_back_to_a_picture_are_its_own(self):
         many = 0
-        for chance, plan in some_plans(11, 300):
+        for chance, plan in plans_by_chance(11, 300):
             if plan.rule().word() != "sum":
                 numbers = Field(some_rows(chance, plan.height(), plan.width(), chance.choice((2, 500, 20000))))
                 picture = put_back(plan, numbers)
@@ -160,7 +136,7 @@ class PutBackTest(unittest.TestCase):
 
     def test_numbers_at_the_bounds_are_put_back(self):
         chance = random.Random(12)
-        for plan in all_plans():
+        for plan in told_plans():
             for time in range(3):
                 rows = [[chance.choice((-MOST_NUMBER, MOST_NUMBER)) for x in range(plan.width())]
                         for y in range(plan.height())]
@@ -179,7 +155,7 @@ class CoarseTest(unittest.TestCase):
 
     def test_the_coarse_field_is_the_corner_that_the_steps_left(self):
         chance = random.Random(13)
-        for plan in all_plans():
+        for plan in told_plans():
             rows = some_rows(chance, plan.height(), plan.width(), 900)
             numbers = halved(plan, Field(rows))
             for step in range(plan.steps() + 1):
@@ -189,7 +165,7 @@ class CoarseTest(unittest.TestCase):
                 self.assertEqual(coarse(plan, numbers, step).rows(), due)
 
     def test_of_any_numbers_it_is_put_back_for_nought_and_the_coarse_part_for_the_last(self):
-        for chance, plan in some_plans(14, 100):
+        for chance, plan in plans_by_chance(14, 100):
             rows = some_rows(chance, plan.height(), plan.width(), MOST_NUMBER)
             numbers = Field(rows)
             self.assertTrue(coarse(plan, numbers, 0).same(put_back(plan, numbers)))

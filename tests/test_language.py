@@ -37,6 +37,14 @@ UNUSED = set("""
     methodcaller os quit setattr super vars sys format format_map chr args
 """.split())
 
+METHODS = set("""
+    append clear copy count endswith extend find get index insert isalnum isalpha isdigit islower isspace isupper
+    items join keys ljust lower lstrip partition pop remove replace reverse rfind rjust rpartition rsplit rstrip
+    setdefault split splitlines startswith strip update upper values zfill bit_length title capitalize swapcase
+    casefold center expandtabs removeprefix removesuffix rindex isascii isdecimal isnumeric istitle isidentifier
+    isprintable encode decode hex
+""".split())
+
 
 def files():
     return sorted(FOLDER.rglob("*.py"))
@@ -195,6 +203,26 @@ class NamesTest(unittest.TestCase):
                 if isinstance(node, ast.Attribute) and isinstance(node.ctx, ast.Store):
                     values.add(node.attr)
         self.assertEqual(methods & values, set())
+
+    def test_only_listed_and_own_methods_are_called(self):
+        own = {row.name for name, tree in trees() for node in tree.body if isinstance(node, ast.ClassDef)
+               for row in node.body if isinstance(row, ast.FunctionDef)}
+        for name, tree in trees():
+            called = {node.func for node in ast.walk(tree) if isinstance(node, ast.Call)}
+            for node in ast.walk(tree):
+                if isinstance(node, ast.Attribute) and node in called:
+                    self.assertIn(node.attr, METHODS | own, (name, node.lineno))
+                elif isinstance(node, ast.Attribute):
+                    self.assertNotIn(node.attr, METHODS | own, (name, node.lineno))
+
+    def test_sets_stand_where_they_may(self):
+        for name, tree in trees():
+            for node in ast.walk(tree):
+                for child in ast.iter_child_nodes(node):
+                    if isinstance(child, (ast.Set, ast.SetComp)) or (
+                            isinstance(child, ast.Call) and getattr(child.func, "id", "") == "set"):
+                        within = isinstance(node, ast.Call) and getattr(node.func, "id", "") in ("sorted", "len")
+                        self.assertTrue(within or isinstance(node, (ast.Compare, ast.BinOp)), (name, child.lineno))
 
     def test_classes_are_called_or_stand_where_they_may(self):
         classes = {node.name for name, tree in trees() for node in tree.body if isinstance(node, ast.ClassDef)}

@@ -6,15 +6,7 @@ import unittest
 from halvedpictures.errors import NoPlace, NoRule, NoSize, NoStep, NoWay
 from halvedpictures.lifted import rule_of, words
 from halvedpictures.plans import Plan
-from tests.helper import assert_refused, is_plain_whole, shown, some_way, wrong_things
-
-
-def some_plans(seed, times):
-    chance = random.Random(seed)
-    for time in range(times):
-        height = chance.randint(1, 64)
-        width = chance.randint(1, min(64, 512 // height))
-        yield Plan(height, width, chance.choice(words()), some_way(chance, height, width))
+from tests.helper import assert_refused, is_place_of, is_plain_whole, shown, some_plans, wrong_things
 
 
 class MadeTest(unittest.TestCase):
@@ -122,7 +114,7 @@ class PartsTest(unittest.TestCase):
         self.assertEqual(Plan(2, 2, "sum", "").order(), [(0, 0), (0, 1), (1, 0), (1, 1)])
 
     def test_parts_and_order_of_many_plans(self):
-        for plan in some_plans(5, 150):
+        for plan in some_plans(random.Random(5), 150, 64):
             parts = plan.parts()
             places = []
             for step, word, top, left, height, width in parts:
@@ -162,7 +154,7 @@ class HalvingsTest(unittest.TestCase):
         self.assertEqual(Plan(2, 2, "sum", "").halvings((1, 1)), 0)
 
     def test_halvings_of_many_plans_go_by_the_parts(self):
-        for plan in some_plans(6, 100):
+        for plan in some_plans(random.Random(6), 100, 64):
             singles = [2 if letter == "b" else 1 for letter in plan.way()]
             for step, word, top, left, height, width in plan.parts():
                 for place in ((top, left), (top + height - 1, left + width - 1)):
@@ -171,9 +163,7 @@ class HalvingsTest(unittest.TestCase):
     def test_no_places(self):
         plan = Plan(3, 2, "half", "b")
         for thing in wrong_things() + [(3, 0), (0, 2), (-1, 0), (0, -1), (2, True), [2, 1]]:
-            right = thing.__class__ is tuple and len(thing) == 2 and all(
-                is_plain_whole(one) for one in thing) and 0 <= thing[0] < 3 and 0 <= thing[1] < 2
-            if right:
+            if is_place_of(thing, 3, 2):
                 self.assertEqual(plan.halvings(thing), 2)
             else:
                 assert_refused(self, NoPlace, {"found": thing}, plan.halvings, thing)

@@ -7,7 +7,7 @@ import unittest
 from halvedpictures.errors import NoHalves, NoRow
 from halvedpictures.lifted import Guessed, Leaning
 from halvedpictures.rules import Halves, Sums
-from tests.helper import assert_refused, is_plain_whole, shown, wrong_things
+from tests.helper import assert_refused, halves_as_written, is_plain_whole, shown, wrong_things
 
 GREAT = 10 ** 15 - 1
 
@@ -27,32 +27,6 @@ BY_HAND = [
 
 def rules():
     return [Sums(), Halves(), Guessed(), Leaning()]
-
-
-def halves_by_the_document(word, row):
-    """The rows of the points 21 to 24, number by number; what is lacking is looked up there."""
-    firsts = {at: row[2 * at] for at in range((len(row) + 1) // 2)}
-    seconds = {at: row[2 * at + 1] for at in range(len(row) // 2)}
-    sums, differences = {}, {}
-    if word == "guess":
-        for at in seconds:
-            differences[at] = seconds[at] - (firsts[at] + firsts.get(at + 1, firsts[at])) // 2
-        for at in firsts:
-            ahead, behind = differences.get(at - 1), differences.get(at)
-            ahead, behind = (behind if ahead is None else ahead), (ahead if behind is None else behind)
-            sums[at] = firsts[at] + (ahead + behind + 2) // 4
-        return list(sums.values()), list(differences.values())
-    for at in firsts:
-        if at in seconds:
-            total = firsts[at] + seconds[at]
-            sums[at] = total if word == "sum" else total // 2
-        else:
-            sums[at] = 2 * firsts[at] if word == "sum" else firsts[at]
-    for at in seconds:
-        differences[at] = firsts[at] - seconds[at]
-        if word == "lean":
-            differences[at] -= (sums.get(at - 1, sums[at]) - sums.get(at + 1, sums[at]) + 2) // 4
-    return list(sums.values()), list(differences.values())
 
 
 def are_right_halves(sums, differences):
@@ -95,14 +69,14 @@ class HalvesTest(unittest.TestCase):
     def test_rows_of_every_length_go_by_the_document(self):
         for row in some_row_lists(1, 400):
             for rule in rules():
-                self.assertEqual(rule.halves(row), halves_by_the_document(rule.word(), row))
+                self.assertEqual(rule.halves(row), halves_as_written(rule.word(), row))
 
     def test_all_short_rows_of_small_numbers(self):
         for many in (2, 3, 4):
             for numbers in itertools.product(range(-3, 4), repeat=many):
                 for rule in rules():
                     halves = rule.halves(list(numbers))
-                    self.assertEqual(halves, halves_by_the_document(rule.word(), list(numbers)))
+                    self.assertEqual(halves, halves_as_written(rule.word(), list(numbers)))
                     self.assertEqual(rule.back(*halves), list(numbers))
 
     def test_numbers_that_come_may_have_more_than_fifteen_figures(self):
