@@ -1,6 +1,6 @@
-"""How fields and places that are handed in are looked at, and refused."""
+"""How fields, places and numbers that are handed in are looked at, and refused."""
 
-from halvedpictures.errors import NoField, NoPlace, TooGreat, Unlike
+from halvedpictures.errors import NoField, NoNumber, NoPlace, TooGreat, Unlike
 from halvedpictures.fields import Field
 from halvedpictures.kinds import is_place_within, is_whole
 
@@ -13,10 +13,15 @@ def size_of(thing):
     return (thing.height(), thing.width())
 
 
-def check_size(plan, thing):
-    """Refuse what is no field of the plan's size."""
+def check_field(thing):
+    """Refuse what is no field."""
     if not isinstance(thing, Field):
         raise NoField(thing)
+
+
+def check_size(plan, thing):
+    """Refuse what is no field of the size of a plan, or of another field."""
+    check_field(thing)
     if size_of(plan) != size_of(thing):
         raise Unlike(size_of(plan), size_of(thing))
 
@@ -45,3 +50,9 @@ def check_place(plan, step, thing):
     height, width = plan.corner(step)
     if not is_place_within(thing, height, width):
         raise NoPlace(thing)
+
+
+def check_number(thing, most):
+    """Refuse what is no whole number from 0 to most."""
+    if not is_whole(thing, 0, most):
+        raise NoNumber(thing)

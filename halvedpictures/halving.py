@@ -16,10 +16,10 @@ def halve_row(rule, row, many):
     return sums + differences + row[many:]
 
 
-def join_row(rule, row, many):
-    """Tell a row with so many halved numbers at its head put back."""
+def join_row(join, row, many):
+    """Tell a row with so many halved numbers at its head put back, by a function of sums and differences."""
     middle = (many + 1) // 2
-    return rule.back(row[:middle], row[middle:many]) + row[many:]
+    return join(row[:middle], row[middle:many]) + row[many:]
 
 
 def halve_rows(rule, rows, height, width):
@@ -27,9 +27,9 @@ def halve_rows(rule, rows, height, width):
     return [halve_row(rule, row, width) for row in rows[:height]] + rows[height:]
 
 
-def join_rows(rule, rows, height, width):
+def join_rows(join, rows, height, width):
     """Tell rows with each row of the corner of this size put back."""
-    return [join_row(rule, row, width) for row in rows[:height]] + rows[height:]
+    return [join_row(join, row, width) for row in rows[:height]] + rows[height:]
 
 
 def step_forth(plan, rows, step):
@@ -43,14 +43,21 @@ def step_forth(plan, rows, step):
     return rows
 
 
-def step_back(plan, rows, step):
+def step_back(plan, join, rows, step):
     """Tell the rows ahead of a step."""
     height, width = plan.corner(step)
     letter = plan.way()[step]
     if letter in ALONG_PILLARS:
-        rows = turned(join_rows(plan.rule(), turned(rows), width, height))
+        rows = turned(join_rows(join, turned(rows), width, height))
     if letter in ALONG_ROWS:
-        rows = join_rows(plan.rule(), rows, height, width)
+        rows = join_rows(join, rows, height, width)
+    return rows
+
+
+def steps_back(plan, join, rows, step):
+    """Tell the rows ahead of a step, put back by this step and all behind it, each row by the function join."""
+    for later in reversed(range(step, plan.steps())):
+        rows = step_back(plan, join, rows, later)
     return rows
 
 
@@ -72,7 +79,6 @@ def coarse(plan, numbers, step):
     """Tell the corner ahead of a step, put back from numbers."""
     check_numbers(plan, numbers)
     height, width = plan.corner(step)
-    rows = numbers.rows()
-    for later in reversed(range(step, plan.steps())):
-        rows = step_back(plan, rows, later)
+    rule = plan.rule()
+    rows = steps_back(plan, lambda sums, differences: rule.back(sums, differences), numbers.rows(), step)
     return Field([row[:width] for row in rows[:height]])

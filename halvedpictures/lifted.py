@@ -10,6 +10,14 @@ def near(numbers, at):
     return numbers[min(max(at, 0), len(numbers) - 1)]
 
 
+def woven(firsts, seconds):
+    """Tell the row of the first and the second ones of its pairs; a last first one may be left over."""
+    row = []
+    for first, second in zip(firsts, seconds):
+        row.extend([first, second])
+    return row + firsts[len(seconds):]
+
+
 def guesses(firsts, many):
     """Tell what the second ones of so many pairs are guessed to be from the first ones."""
     return [(firsts[at] + near(firsts, at + 1)) // 2 for at in range(many)]
@@ -43,10 +51,7 @@ class Guessed(Sums):
         """Put back a row from what is known to be its halves."""
         firsts = [total - lift for total, lift in zip(sums, lifts(differences, len(sums)))]
         seconds = [less + guess for less, guess in zip(differences, guesses(firsts, len(differences)))]
-        row = []
-        for first, second in zip(firsts, seconds):
-            row.extend([first, second])
-        return row + firsts[len(seconds):]
+        return woven(firsts, seconds)
 
 
 class Leaning(Halves):

@@ -39,6 +39,17 @@ def places_of(part):
     return [(y, x) for y in range(top, top + height) for x in range(left, left + width)]
 
 
+def part_of(plan, place):
+    """Tell the part of a plan in which a place lies."""
+    return [part for part in plan.parts() if place in places_of(part)][0]
+
+
+def is_coarse(plan, place):
+    """Tell whether the number at a place is a coarse one."""
+    height, width = plan.corner(plan.steps())
+    return is_place_within(place, height, width)
+
+
 class Plan:
     """A size, a rule and a way; it never changes."""
 

@@ -160,6 +160,20 @@ def back_as_written(word, s, d):
     return row + a[len(b):]
 
 
+def carried_as_written(word, s, d):
+    """The errors of a row by those of its sums and differences, in the words of point 61."""
+    pairs = range(len(d))
+    if word == "guess":
+        a = [s[i] + (at_or(d, i - 1, d[min(i, len(d) - 1)]) + at_or(d, i, d[i - 1]) + 3) // 4 for i in range(len(s))]
+        b = [d[i] + (a[i] + at_or(a, i + 1, a[i]) + 1) // 2 for i in pairs]
+        return [one for pair in zip(a, b) for one in pair] + a[len(b):]
+    if word == "lean":
+        d = [d[i] + (at_or(s, i - 1, s[i]) + at_or(s, i + 1, s[i]) + 3) // 4 for i in pairs]
+    both = [(s[i] + d[i] + 1) // 2 if word == "sum" else s[i] + (d[i] + 1) // 2 for i in pairs]
+    left = [(one + 1) // 2 if word == "sum" else one for one in s[len(d):]]
+    return [one for one in both for time in range(2)] + left
+
+
 def lines_of_step(plan, step):
     """The lines of places that a step halves, one behind the other."""
     height, width = plan.corner(step)
