@@ -10,9 +10,9 @@ def turned(rows):
     return [[row[x] for row in rows] for x in range(len(rows[0]))]
 
 
-def halve_row(rule, row, many):
-    """Tell a row with so many numbers at its head halved."""
-    sums, differences = rule.halves(row[:many])
+def halve_row(part, row, many):
+    """Tell a row with so many numbers at its head halved, by a function of these."""
+    sums, differences = part(row[:many])
     return sums + differences + row[many:]
 
 
@@ -22,9 +22,9 @@ def join_row(join, row, many):
     return join(row[:middle], row[middle:many]) + row[many:]
 
 
-def halve_rows(rule, rows, height, width):
+def halve_rows(part, rows, height, width):
     """Tell rows with each row of the corner of this size halved."""
-    return [halve_row(rule, row, width) for row in rows[:height]] + rows[height:]
+    return [halve_row(part, row, width) for row in rows[:height]] + rows[height:]
 
 
 def join_rows(join, rows, height, width):
@@ -32,14 +32,21 @@ def join_rows(join, rows, height, width):
     return [join_row(join, row, width) for row in rows[:height]] + rows[height:]
 
 
-def step_forth(plan, rows, step):
+def step_forth(plan, part, rows, step):
     """Tell the rows behind a step."""
     height, width = plan.corner(step)
     letter = plan.way()[step]
     if letter in ALONG_ROWS:
-        rows = halve_rows(plan.rule(), rows, height, width)
+        rows = halve_rows(part, rows, height, width)
     if letter in ALONG_PILLARS:
-        rows = turned(halve_rows(plan.rule(), turned(rows), width, height))
+        rows = turned(halve_rows(part, turned(rows), width, height))
+    return rows
+
+
+def steps_forth(plan, part, rows):
+    """Tell the rows behind all steps, each row halved by the function part."""
+    for step in range(plan.steps()):
+        rows = step_forth(plan, part, rows, step)
     return rows
 
 
@@ -64,10 +71,8 @@ def steps_back(plan, join, rows, step):
 def halved(plan, picture):
     """Tell the field of the numbers of a picture."""
     check_picture(plan, picture)
-    rows = picture.rows()
-    for step in range(plan.steps()):
-        rows = step_forth(plan, rows, step)
-    return Field(rows)
+    rule = plan.rule()
+    return Field(steps_forth(plan, lambda row: rule.halves(row), picture.rows()))
 
 
 def put_back(plan, numbers):

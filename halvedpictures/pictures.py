@@ -1,25 +1,10 @@
 """Pictures that change, with their numbers, deed by deed."""
 
 from halvedpictures.checks import MOST_VALUE, check_size
-from halvedpictures.errors import NoDeed, NoNumber, NoPlace, TooGreat
-from halvedpictures.fields import Field
+from halvedpictures.errors import NoDeed, NoNumber, NoPlace
 from halvedpictures.halving import halved
 from halvedpictures.kinds import is_whole
-
-
-def is_value(thing):
-    """Tell whether any thing is a value of a picture."""
-    return is_whole(thing, -MOST_VALUE, MOST_VALUE)
-
-
-def summed(field, more):
-    """Tell the picture that another field makes of one; refuse where a value would be beyond."""
-    rows = field.rows()
-    for y, x in field.places():
-        rows[y][x] += more.at((y, x))
-        if not is_value(rows[y][x]):
-            raise TooGreat((y, x))
-    return Field(rows)
+from halvedpictures.summing import summed
 
 
 def changes_of(plan, before, behind):
@@ -56,14 +41,14 @@ class Picture:
         """Put a value at a place, and tell the changes of the numbers."""
         if not self.field().is_place(place):
             raise NoPlace(place)
-        if not is_value(value):
+        if not is_whole(value, -MOST_VALUE, MOST_VALUE):
             raise NoNumber(value)
         return self.become(self.field().with_number(place, value))
 
     def add(self, field):
         """Add a field's numbers to the values, and tell the changes of the numbers."""
         check_size(self.halver, field)
-        return self.become(summed(self.field(), field))
+        return self.become(summed(self.field(), field, MOST_VALUE))
 
     def become(self, field):
         """Do the deed that makes this field the picture, and tell the changes of the numbers."""

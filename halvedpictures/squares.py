@@ -47,6 +47,12 @@ def weight(plan, place):
     return weight_among(plan, all_copies(plan), place)
 
 
+def keys_of(plan, numbers):
+    """Tell the square of each number times its weight, in the plan's order."""
+    counts = all_copies(plan)
+    return [numbers.at(place) ** 2 * weight_among(plan, counts, place) for place in plan.order()]
+
+
 def check_sum(plan):
     """Refuse a plan of another rule than sum."""
     word = plan.rule().word()
@@ -75,5 +81,4 @@ def squares(plan, numbers):
     """Tell the sum of the squares of all numbers, each times its weight."""
     check_sum(plan)
     check_numbers(plan, numbers)
-    counts = all_copies(plan)
-    return sum([numbers.at(place) ** 2 * weight_among(plan, counts, place) for place in numbers.places()])
+    return sum(keys_of(plan, numbers))
