@@ -19,12 +19,12 @@ def field_text(field):
     return "; ".join([row_text(row) for row in field.rows()])
 
 
-def is_plain(word):
-    """Tell whether a text is a number of at most fifteen figures, plainly written."""
+def is_plain(word, most):
+    """Tell whether a text is a number of at most so many figures, plainly written."""
     if word == "0":
         return True
     figures = word.removeprefix("-")
-    if not 1 <= len(figures) <= MOST_FIGURES or figures[0] == "0":
+    if not 1 <= len(figures) <= most or figures[0] == "0":
         return False
     return all([sign in FIGURES for sign in figures])
 
@@ -36,7 +36,7 @@ def read_field(text):
     rows = []
     for line in text.split("; "):
         words = line.split(" ")
-        if not all([is_plain(word) for word in words]):
+        if not all([is_plain(word, MOST_FIGURES) for word in words]):
             raise NoText(text)
         rows.append([int(word) for word in words])
     try:

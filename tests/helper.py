@@ -1,11 +1,13 @@
 """What several tests need: wrong things of every kind, and a look at refusals."""
 
 from halvedpictures import errors
+from halvedpictures.desk import Desk
 from halvedpictures.errors import HalvedError
 from halvedpictures.fields import Field
 from halvedpictures.lifted import Guessed, Leaning, words
 from halvedpictures.pictures import Picture
 from halvedpictures.plans import Plan
+from halvedpictures.readings import read_signs
 from halvedpictures.rules import Halves, Sums
 
 
@@ -22,7 +24,7 @@ def wrong_things():
         {}, {"a": 1}, {0: [1, 2], 1: [3, 4]}, {(0, 0): None}, {"rows": {"rows": [()]}},
         Field([[1]]), Field([[1, 2], [3, 4]]), [Field([[1]])], errors.NoField(None), HalvedError("no"),
         Sums(), Halves(), Guessed(), Leaning(), [Sums()], Plan(2, 2, "sum", "b"), (Plan(1, 1, "lean", ""), 0),
-        Picture(Plan(1, 2, "half", "r"), Field([[3, 4]])),
+        Picture(Plan(1, 2, "half", "r"), Field([[3, 4]])), read_signs("halved 1 2 lean r 0 02:"), Desk(), [Desk()],
     ]
 
 
@@ -214,3 +216,74 @@ def cells_of(rows):
 def rows_of(cells, height, width):
     """The rows of a corner of cells."""
     return [[cells[y, x] for x in range(width)] for y in range(height)]
+
+
+# All signs from the blank to `~`.
+SIGNS = [chr(code) for code in range(32, 127)]
+
+
+def check_as_written(text):
+    """The check of a text [91], reckoned from its last sign on by powers of ten."""
+    return f"{sum((ord(sign) - 32) * 10 ** at for at, sign in enumerate(reversed(text))) % 97:02d}"
+
+
+def head_as_written(height, width, word, way, planes):
+    """A head of a row of signs of any words, with the right check [92]."""
+    told = f"halved {height} {width} {word} {way} {planes} "
+    return told + check_as_written(told) + ":"
+
+
+def row_as_written(plan, cells, planes):
+    """The row of signs of numbers by their places, with so many planes, figure by figure [93]."""
+    row = head_as_written(plan.height(), plan.width(), plan.rule().word(), plan.way() or "-", planes)
+    signed = {}
+    for at in range(planes):
+        plane = ""
+        for place in plan.order():
+            figure = f"{abs(cells[place]):0{planes}b}"[at]
+            plane += figure
+            if figure == "1" and place not in signed:
+                signed[place] = "-" if cells[place] < 0 else "+"
+                plane += signed[place]
+        row += plane + check_as_written(plane) + ";"
+    return row
+
+
+def read_as_written(body, order, planes):
+    """What is read of the signs behind a head [94] [95]: either a place of a bad sign, or numbers, unread and whole."""
+    signs, at = iter(body), -1
+    figures, signed = {place: "" for place in order}, {}
+    whole = planes == 0
+
+    def due(among):
+        nonlocal at
+        sign = next(signs)
+        at += 1
+        if sign not in list(among):
+            raise ArithmeticError
+        return sign
+
+    try:
+        for plane in range(planes):
+            start = at + 1
+            for place in order:
+                figure = due("01")
+                if figure == "1" and place not in signed:
+                    signed[place] = due("+-")
+                figures[place] += figure
+            check, first = check_as_written(body[start:at + 1]), at + 1
+            if due("0123456789") + due("0123456789") != check:
+                return first
+            due(";")
+        whole = True
+        due("")
+    except StopIteration:
+        pass
+    except ArithmeticError:
+        return at
+    numbers, unread = {}, {}
+    for place in order:
+        left = planes - len(figures[place])
+        numbers[place] = int(signed.get(place, "+") + "0" + figures[place], 2) * 2 ** left
+        unread[place] = 2 ** left - 1
+    return numbers, unread, whole

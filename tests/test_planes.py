@@ -9,15 +9,10 @@ from halvedpictures.lifted import words
 from halvedpictures.plans import Plan
 from halvedpictures.planes import check_of, head_of, planes_of
 from tests.helper import (
-    SIZES_AND_WAYS, assert_refused, is_plain_whole, shown, some_rows, told_plans, wrong_things)
+    SIGNS, SIZES_AND_WAYS, assert_refused, check_as_written, head_as_written, is_plain_whole, shown, some_rows,
+    told_plans, wrong_things)
 
 MOST = 10 ** 9
-SIGNS = [chr(code) for code in range(32, 127)]
-
-
-def check_as_written(text):
-    """The check, reckoned from the last sign on by powers of ten."""
-    return f"{sum((ord(sign) - 32) * 10 ** at for at, sign in enumerate(reversed(text))) % 97:02d}"
 
 
 class CheckTest(unittest.TestCase):
@@ -49,17 +44,14 @@ class CheckTest(unittest.TestCase):
 
 class HeadTest(unittest.TestCase):
     def test_by_hand(self):
-        self.assertEqual(head_of(Plan(2, 3, "half", "r"), 4), "halved 2 3 half r 4 " + check_as_written(
-            "halved 2 3 half r 4 ") + ":")
         self.assertEqual(head_of(Plan(2, 3, "half", "r"), 4), "halved 2 3 half r 4 60:")
         self.assertEqual(head_of(Plan(1, 1, "sum", ""), 0), "halved 1 1 sum - 0 83:")
 
     def test_many(self):
         for plan in told_plans():
             for planes in (0, 1, 9, 10, 29, 30):
-                due = " ".join(["halved", str(plan.height()), str(plan.width()), plan.rule().word(),
-                                plan.way() or "-", str(planes), ""])
-                self.assertEqual(head_of(plan, planes), due + check_as_written(due) + ":")
+                due = head_as_written(plan.height(), plan.width(), plan.rule().word(), plan.way() or "-", planes)
+                self.assertEqual(head_of(plan, planes), due)
 
     def test_unlike_plans_and_planes_have_unlike_heads(self):
         plans = told_plans()
